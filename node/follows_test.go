@@ -402,38 +402,46 @@ func (h *history) goesOn() {
 // P20.9 to P20.11: each operation of each kind of call refused, with and without a loss of power; any survivors of a crash, or none; and a life behind that to which all comes again.
 func TestRefusedAtEachOperation(t *testing.T) {
 	t.Parallel()
-	found := tally{}
+	met := tally{}
 	for _, left := range []int{3, 0} {
-		for number, act := range acts() {
-			for k := 1; ; k++ {
-				h := scene(t, left)
-				h.met = found
-				kind := 1 + (k+number)%2
-				arm(t, h.d, fault(k, kind))
-				if a := h.do(act); a.err != api.ErrDevice {
-					if a.err != api.OK || k < 3 {
-						h.fail("%v = %+v", act, a)
-					}
-					break
-				}
-				if kind == io {
-					x := h.fork("no crash")
-					x.boot(params(3, 64))
-					x.goesOn()
-				}
-				for _, keep := range survivors(len(h.d.Pending())) {
-					x := h.fork("a crash")
-					x.crash(keep)
-					x.boot(params(3, 64))
-					x.goesOn()
+		for _, act := range acts() {
+			for _, kind := range []int{power, io} {
+				for k := 1; refusedAt(t, met, left, act, k, kind); k++ {
 				}
 			}
 		}
 	}
-	found.want(t, 20, "found 0", "found 1")
+	met.want(t, 20, "found 0", "found 1")
 }
 
-// P20.11: Boots that do not answer OK between two that do: refused at each of their operations, behind a call that was refused at its last one, so that a Boot may find either; what one has found behind its flush the next one finds.
+// refusedAt lets the k-th operation of a call behind a scene meet a fault, and goes on behind that in all ways; false, if the call has fewer operations.
+func refusedAt(t *testing.T, met tally, left int, act call, k, kind int) bool {
+	t.Helper()
+	h := scene(t, left)
+	h.met = met
+	arm(t, h.d, fault(k, kind))
+	a := h.do(act)
+	if a.err == api.OK && k > 2 {
+		return false
+	}
+	if a.err != api.ErrDevice {
+		h.fail("%v = %+v", act, a)
+	}
+	if kind == io {
+		x := h.fork("no crash")
+		x.boot(params(3, 64))
+		x.goesOn()
+	}
+	for _, keep := range survivors(len(h.d.Pending())) {
+		x := h.fork("a crash")
+		x.crash(keep)
+		x.boot(params(3, 64))
+		x.goesOn()
+	}
+	return true
+}
+
+// P20.11: Boots that do not answer OK between two that do: refused at each of their operations (by turns with and without a loss of power), behind a call that was refused at its last one, so that a Boot may find either; what one has found behind its flush the next one finds.
 func TestBootsBetween(t *testing.T) {
 	t.Parallel()
 	met := tally{}
