@@ -348,4 +348,6 @@ func TestPrintVeryLong(t *testing.T) {
 	wantNoPrint(t, of(slices.Repeat([]api.Op{{Kind: api.OpSend, Data: data}}, maxSteps)...), many)
 	keep := make([]bool, 4*maxScript)
 	wantNoPrint(t, of(slices.Repeat([]api.Op{{Kind: api.OpCrash, Keep: keep}}, maxSteps)...), many)
+	fits := longChanges(maxScript)
+	wantNoPrint(t, of(slices.Repeat([]api.Op{{Kind: api.OpCommit, Changes: fits}}, 200)...), many)
 }

@@ -43,13 +43,13 @@ func (p *page) hex(b []byte) {
 		p.word(none)
 		return
 	}
-	p.add(" ")
 	// Each makes at least one byte: those beyond the room would not be kept.
-	for _, one := range b[:min(len(b), p.room())] {
-		high, low := one>>4, one&15
-		p.add(digits[high : high+1])
-		p.add(digits[low : low+1])
+	b = b[:min(len(b), p.room())]
+	out := make([]byte, 0, 2*len(b))
+	for _, one := range b {
+		out = append(out, digits[one>>4], digits[one&15])
 	}
+	p.word(string(out))
 }
 
 func (p *page) bits(keep []bool) {
@@ -57,14 +57,16 @@ func (p *page) bits(keep []bool) {
 		p.word(none)
 		return
 	}
-	p.add(" ")
-	for _, one := range keep[:min(len(keep), p.room())] {
+	keep = keep[:min(len(keep), p.room())]
+	out := make([]byte, 0, len(keep))
+	for _, one := range keep {
 		if one {
-			p.add("1")
+			out = append(out, '1')
 		} else {
-			p.add("0")
+			out = append(out, '0')
 		}
 	}
+	p.word(string(out))
 }
 
 // step writes a step's line.
