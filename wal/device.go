@@ -7,20 +7,15 @@ import (
 	"culvert/bits"
 	"culvert/crc"
 	"culvert/disk"
+	"culvert/layout"
 	"culvert/sector"
 )
 
-// supers is how many superblocks a device begins with, and how many regions stand behind them: one for the even epochs, one for the odd ones.
-const supers = 2
-
 // room tells how many sectors a region of a device has.
-func room(d *disk.Disk) int { return (d.Sectors() - supers) / supers }
+func room(d *disk.Disk) int { return layout.Room(d.Sectors()) }
 
 // regionOf tells at which sector of a device the region of an epoch begins.
-func regionOf(d *disk.Disk, epoch int) int { return supers + epoch%supers*room(d) }
-
-// hasRoom tells whether a region has room for a state of n bytes and the longest transaction behind it.
-func hasRoom(d *disk.Disk, n int) bool { return Pieces(n)+Need(api.MaxTx) <= room(d) }
+func regionOf(d *disk.Disk, epoch int) int { return layout.Region(d.Sectors(), epoch) }
 
 // home tells at which sector of a device a sector of its log stands.
 func home(d *disk.Disk, s api.Sector) int {
@@ -58,22 +53,7 @@ func endOf(tx []byte) []byte {
 	return bits.Put(b, crc.Sum(tx))
 }
 
-// super is a superblock: its epoch, its seq, the length and the sum of its checkpoint.
-type super struct {
-	epoch, seq, length int
-	sum                uint32
-}
-
 // superOf is the superblock of a checkpoint.
-func superOf(epoch, seq int, state []byte) super {
-	return super{epoch: epoch, seq: seq, length: len(state), sum: crc.Sum(state)}
-}
-
-// on is the superblock as the sector of a device.
-func (s super) on(d *disk.Disk) api.Sector {
-	b := bits.Put(nil, uint32(d.Sectors()))
-	b = bits.Put(b, uint32(Pieces(s.length)))
-	b = bits.Put(b, uint32(s.length))
-	b = bits.Put(b, s.sum)
-	return api.Sector{Tag: api.TagSuper, Epoch: s.epoch, Seq: s.seq, Place: s.epoch % supers, Body: b}
+func superOf(epoch, seq int, state []byte) layout.Super {
+	return layout.Super{Epoch: epoch, Seq: seq, Length: len(state), Sum: crc.Sum(state)}
 }

@@ -7,9 +7,9 @@ import (
 	"slices"
 
 	"culvert/api"
-	"culvert/bits"
 	"culvert/crc"
 	"culvert/disk"
+	"culvert/layout"
 	"culvert/sector"
 )
 
@@ -37,12 +37,12 @@ func (l *Log) enter() ([]byte, api.Errno) {
 		return nil, e
 	}
 	for _, s := range found {
-		state, taken, e := s.readState(l.device)
+		state, taken, e := readState(l.device, s)
 		if e != api.OK {
 			return nil, e
 		}
 		if taken {
-			l.epoch, l.seq, l.place = s.epoch, s.seq, Pieces(s.length)
+			l.epoch, l.seq, l.place = s.Epoch, s.Seq, Pieces(s.Length)
 			return state, api.OK
 		}
 	}
@@ -50,53 +50,36 @@ func (l *Log) enter() ([]byte, api.Errno) {
 }
 
 // readSupers are the superblocks of a device that count, the one with the greater epoch first.
-func readSupers(d *disk.Disk) ([]super, api.Errno) {
-	var out []super
-	for i := range supers {
+func readSupers(d *disk.Disk) ([]layout.Super, api.Errno) {
+	var out []layout.Super
+	for i := range layout.Supers {
 		b, e := d.Read(i)
 		if e != api.OK {
 			return nil, e
 		}
-		if s, counts := getSuper(d, i, b); counts {
+		if s, counts := layout.GetSuper(d.Sectors(), i, b); counts {
 			out = append(out, s)
 		}
 	}
-	slices.SortFunc(out, func(a, b super) int { return cmp.Compare(b.epoch, a.epoch) })
+	slices.SortFunc(out, func(a, b layout.Super) int { return cmp.Compare(b.Epoch, a.Epoch) })
 	return out, api.OK
 }
 
-// getSuper is the superblock that the bytes of a device's sector are, and whether it counts.
-func getSuper(d *disk.Disk, i int, b []byte) (super, bool) {
-	found, e := sector.Get(b)
-	if e != api.OK || found.Tag != api.TagSuper || found.Epoch%supers != i || found.Place != i {
-		return super{}, false
-	}
-	r := bits.NewReader(found.Body)
-	n, k := int(bits.Get[uint32](r)), int(bits.Get[uint32](r))
-	s := super{epoch: found.Epoch, seq: found.Seq}
-	s.length = int(bits.Get[uint32](r))
-	s.sum = bits.Get[uint32](r)
-	if e, _ := r.Err(); e != api.OK || r.Left() > 0 {
-		return super{}, false
-	}
-	return s, n == d.Sectors() && k == Pieces(s.length) && hasRoom(d, s.length)
-}
-
 // readState reads a superblock's checkpoint: its string, and whether the superblock is taken by it.
-func (s super) readState(d *disk.Disk) ([]byte, bool, api.Errno) {
+func readState(d *disk.Disk, s layout.Super) ([]byte, bool, api.Errno) {
 	var state []byte
-	for place := range Pieces(s.length) {
-		b, e := d.Read(regionOf(d, s.epoch) + place)
+	for place := range Pieces(s.Length) {
+		b, e := d.Read(regionOf(d, s.Epoch) + place)
 		if e != api.OK {
 			return nil, false, e
 		}
-		body, right := sector.Right(b, api.TagPiece, s.epoch, s.seq, place)
-		if !right || len(body) != min(s.length-len(state), api.BodySize) {
+		body, right := sector.Right(b, api.TagPiece, s.Epoch, s.Seq, place)
+		if !right || len(body) != min(s.Length-len(state), api.BodySize) {
 			return nil, false, api.OK
 		}
 		state = append(state, body...)
 	}
-	return state, crc.Sum(state) == s.sum, api.OK
+	return state, crc.Sum(state) == s.Sum, api.OK
 }
 
 // transactions goes through those that stand behind the log's place, and takes the place and the next seq behind each. What the device refuses is told in place of a transaction, as the last.
